@@ -1,0 +1,1 @@
+"""Pathask: who is reached by ways that fit a pattern."""
