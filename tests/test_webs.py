@@ -283,6 +283,12 @@ class WhatIsRefused(Case):
         web.put_knot("k", ["a", "b", "c", "d", "e"])
         self.assert_refused(web, errors.TooMany, {"word": "marks"}, "put_mark", "k", "f")
 
+    def test_no_refusal_is_told_of_a_knot_put_in_with_six_marks(self):
+        web = Web()
+        web.put_knot("k", ["a", "b", "c", "d", "e", "f"])
+        self.assertEqual(web.marks("k"), ["a", "b", "c", "d", "e", "f"])
+        self.assert_refused(web, errors.TooMany, {"word": "marks"}, "put_mark", "k", "g")
+
     def test_marks_are_counted_for_each_knot(self):
         web = Web()
         web.put_knot("k", ["a", "b", "c", "d", "e"])
