@@ -1,0 +1,163 @@
+"""What the document tells, written as plainly as it tells it, and inputs by chance: to hold the program against."""
+
+from pathask.webs import Web
+
+STAY = ("stay",)
+ANY_ON = ("step", "on", "*")
+
+
+def on(word):
+    return ("step", "on", word)
+
+
+def back(word):
+    return ("step", "back", word)
+
+
+def then(*patterns):
+    return ("then", patterns)
+
+
+def either(*patterns):
+    return ("either", patterns)
+
+
+def many(pattern):
+    return ("many", pattern)
+
+
+def web_with(knots, ties):
+    web = Web()
+    for name, marks in knots.items():
+        web.put_knot(name, list(marks))
+    for one, word, other in ties:
+        web.put_tie(one, word, other)
+    return web
+
+
+def steps_of(rows, knot):
+    ties = rows[1]
+    return ([("on", word, other) for one, word, other in ties if one == knot]
+            + [("back", word, one) for one, word, other in ties if other == knot])
+
+
+def end_plainly(way):
+    return ([way[0]] + [step[2] for step in way[1]])[-1]
+
+
+def ways_from(web, knot, longest):
+    rows = web.rows()
+    told = layer = [(knot, ())]
+    for length in range(longest):
+        layer = [(way[0], way[1] + (step,)) for way in layer for step in steps_of(rows, end_plainly(way))]
+        told = told + layer
+    return told
+
+
+def all_ways(web, longest):
+    return [way for knot in web.knots() for way in ways_from(web, knot, longest)]
+
+
+def fits_plainly(web, pattern, way):
+    marks = dict(web.rows()[0])
+    knots = [way[0]] + [step[2] for step in way[1]]
+    known = {}
+
+    def asked(part, first, last):
+        key = (part, first, last)
+        if key not in known:
+            known[key] = told(part, first, last)
+        return known[key]
+
+    def told(part, first, last):
+        if part == STAY:
+            return first == last
+        if part[0] == "step":
+            if last != first + 1:
+                return False
+            side, word, knot = way[1][first]
+            return part[1] == side and part[2] in ("*", word)
+        if part[0] == "at":
+            return first == last and part[1] in marks[knots[first]]
+        if part[0] == "off":
+            return first == last and part[1] not in marks[knots[first]]
+        if part[0] == "either":
+            return any([asked(one, first, last) for one in part[1]])
+        if part[0] == "then":
+            if not part[1]:
+                return first == last
+            rest = ("then", part[1][1:])
+            return any(asked(part[1][0], first, cut) and asked(rest, cut, last) for cut in range(first, last + 1))
+        # Ways without steps among the cut ones may be left out, so each one cut off is taken with a step at least.
+        return first == last or any(
+            asked(part[1], first, cut) and asked(part, cut, last) for cut in range(first + 1, last + 1))
+
+    return asked(pattern, 0, len(way[1]))
+
+
+def some_leaf(chance, words, marks):
+    sort = chance.choice(["stay", "step", "step", "step", "step", "at", "off"])
+    if sort == "step":
+        return ("step", chance.choice(["on", "back"]), chance.choice(words + ["*"]))
+    return STAY if sort == "stay" else (sort, chance.choice(marks))
+
+
+def some_pattern(chance, parts, depth=10, words=("u", "v"), marks=("m", "n")):
+    """One of just so many parts, or fewer where the depth doesn't let them be; at most depth within one another."""
+    if parts <= 1 or depth == 1:
+        empty = chance.random() < 0.15
+        return (chance.choice(["then", "either"]), ()) if empty else some_leaf(chance, list(words), list(marks))
+    sort = chance.choice(["then", "then", "either", "either", "many"])
+    if sort == "many":
+        return (sort, some_pattern(chance, parts - 1, depth - 1, words, marks))
+    left, within = parts - 1, []
+    while left:
+        share = chance.randint(1, left)
+        within.append(some_pattern(chance, share, depth - 1, words, marks))
+        left -= share
+    chance.shuffle(within)
+    return (sort, tuple(within))
+
+
+def some_web(chance, knots, ties, words=("u", "v"), marks=("m", "n")):
+    names = list("abcdefgh")[:knots]
+    web = web_with({name: [mark for mark in marks if chance.random() < 0.5] for name in names}, [])
+    for number in range(ties):
+        tie = (chance.choice(names), chance.choice(words), chance.choice(names))
+        if not web.has_tie(*tie):
+            web.put_tie(*tie)
+    return web
+
+
+def some_way(chance, web, length):
+    knot = chance.choice(web.knots())
+    way = (knot, ())
+    while len(way[1]) < length and web.steps(end_plainly(way)):
+        way = (knot, way[1] + (chance.choice(web.steps(end_plainly(way))),))
+    return way
+
+
+def some_thing(chance, depth, words):
+    if depth == 0 or chance.random() < 0.4:
+        return chance.choice(list(words) + [0, 1, -1, 10 ** 19, True, False, None, "", "A", "*", (), []])
+    things = [some_thing(chance, depth - 1, words) for number in range(chance.randrange(5))]
+    return things if chance.random() < 0.3 else tuple(things)
+
+
+def deep_thing(depth, inmost="a"):
+    thing = inmost
+    for number in range(depth):
+        thing = [thing] if number % 2 else (thing,)
+    return thing
+
+
+NO_TUPLES = [0, 1, -1, 2, 10 ** 19, True, False, None, "", "a", "stay", "on u", [], ["stay"], ["a", []], [("stay",)]]
+
+
+def changed_within(thing, change):
+    """All things that come of it where just one thing in it, itself too, is changed."""
+    told = list(change(thing))
+    if isinstance(thing, tuple):
+        for place, part in enumerate(thing):
+            told += [thing[:place] + (other,) + thing[place + 1:] for other in changed_within(part, change)]
+    return told
