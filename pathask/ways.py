@@ -8,8 +8,7 @@ def is_way(web, thing):
     if not is_row(thing, 2) or not isinstance(thing[1], tuple):
         return False
     knot = thing[0]
-    # Lists can't be looked up among the knots, so texts are parted from all else first.
-    if not isinstance(knot, str) or knot not in web.knots():
+    if knot not in web.knots():
         return False
     for step in thing[1]:
         if not is_step(web, knot, step):
@@ -18,6 +17,7 @@ def is_way(web, thing):
     return True
 
 
+# Only of texts a tie may be asked, so all else is refused first.
 def is_step(web, knot, thing):
     if not is_row(thing, 3) or not all([isinstance(part, str) for part in thing]):
         return False

@@ -161,3 +161,66 @@ def changed_within(thing, change):
         for place, part in enumerate(thing):
             told += [thing[:place] + (other,) + thing[place + 1:] for other in changed_within(part, change)]
     return told
+
+
+def some_machine(chance, stands, moves, words=("u", "v"), marks=("m", "n")):
+    told = {(chance.randrange(stands), some_leaf(chance, list(words), list(marks)), chance.randrange(stands))
+            for number in range(moves)}
+    ends = {chance.randrange(stands) for number in range(chance.randrange(3))}
+    return (stands, chance.randrange(stands), tuple(sorted(ends)), tuple(sorted(told)))
+
+
+def led_plainly(rows, machine, place):
+    """The places, tuples (knot, stand), to which one move leads from a place: without steps, and by one step."""
+    knot, stand = place
+    marks = dict(rows[0])[knot]
+    without, stepped = [], []
+    for one, leaf, other in machine[3]:
+        if one != stand:
+            continue
+        if leaf == STAY or leaf[0] == "at" and leaf[1] in marks or leaf[0] == "off" and leaf[1] not in marks:
+            without.append((knot, other))
+        if leaf[0] == "step":
+            stepped += [(step[2], other) for step in steps_of(rows, knot)
+                        if step[0] == leaf[1] and leaf[2] in ("*", step[1])]
+    return without, stepped
+
+
+def fewest_steps(web, machine, knot):
+    """For each place that can be come to from the knot and the begin, by how few steps."""
+    rows = web.rows()
+    fewest = {(knot, machine[1]): 0}
+    led = {}
+    grown = True
+    while grown:
+        grown = False
+        for place in list(fewest):
+            if place not in led:
+                led[place] = led_plainly(rows, machine, place)
+            for more, places in enumerate(led[place]):
+                for behind in places:
+                    if fewest.get(behind, 10 ** 9) > fewest[place] + more:
+                        fewest[behind] = fewest[place] + more
+                        grown = True
+    return fewest
+
+
+def goes_plainly(web, machine, way):
+    """Where one may be on the way and on which stand, until no more come."""
+    marks = dict(web.rows()[0])
+    knots = [way[0]] + [step[2] for step in way[1]]
+    found = {(0, machine[1])}
+    while True:
+        more = set()
+        for place, stand in found:
+            for one, leaf, other in machine[3]:
+                if one != stand:
+                    continue
+                if leaf[0] == "step":
+                    if place < len(way[1]) and leaf[1] == way[1][place][0] and leaf[2] in ("*", way[1][place][1]):
+                        more.add((place + 1, other))
+                elif leaf == STAY or (leaf[1] in marks[knots[place]]) == (leaf[0] == "at"):
+                    more.add((place, other))
+        if more <= found:
+            return any((len(way[1]), end) in found for end in machine[2])
+        found |= more

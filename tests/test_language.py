@@ -38,6 +38,7 @@ EXPRESSIONS = (
     ast.Call, ast.Attribute, ast.Subscript, ast.Slice, ast.ListComp, ast.JoinedStr, ast.FormattedValue, ast.Lambda,
     ast.Name)
 WALKED = ("zip", "enumerate", "reversed", "range")
+CHANGERS = set("append clear extend insert pop remove reverse setdefault update add discard".split())
 WALKERS = ("list", "tuple", "dict", "sorted", "sum", "any", "all", "enumerate", "zip", "min", "max")
 
 
@@ -45,6 +46,21 @@ def pythons_own_names():
     found = set()
     for kind in (str, int, list, tuple, dict, set, frozenset, bytes):
         found |= {name for name in dir(kind) if not name.startswith("__")}
+    return found
+
+
+def names_in(node):
+    return {part.id for part in ast.walk(node) if isinstance(part, ast.Name)}
+
+
+def changed_in(node):
+    """The names of lists and dicts that are changed there by a method or by an index."""
+    found = set()
+    for part in ast.walk(node):
+        if isinstance(part, ast.Call) and isinstance(part.func, ast.Attribute) and part.func.attr in CHANGERS:
+            found |= {part.func.value.id} if isinstance(part.func.value, ast.Name) else set()
+        if isinstance(part, ast.Subscript) and isinstance(part.ctx, ast.Store) and isinstance(part.value, ast.Name):
+            found.add(part.value.id)
     return found
 
 
@@ -72,6 +88,7 @@ class Checker:
     def check(self):
         self.check_text()
         self.check_top()
+        self.check_locals()
         for node in ast.walk(self.tree):
             if isinstance(node, ast.stmt):
                 self.check_statement(node)
@@ -95,6 +112,23 @@ class Checker:
             words = re.findall(r"\w+", row)
             if BANNED_WORDS & set(words) or any(part in row for part in BANNED_PARTS):
                 self.told("L17", number)
+
+    def check_locals(self):
+        taken, at_top = set(), set()
+        for node in self.tree.body:
+            if isinstance(node, ast.ImportFrom):
+                taken |= {alias.asname or alias.name for alias in node.names}
+            if isinstance(node, ast.ClassDef):
+                taken.add(node.name)
+            if isinstance(node, ast.Assign) and isinstance(node.value, (ast.List, ast.Dict)):
+                at_top |= names_in(node.targets[0])
+        for node in ast.walk(self.tree):
+            if isinstance(node, ast.arg) and node.arg in taken:
+                self.told("L15", node)
+            if isinstance(node, ast.Name) and isinstance(node.ctx, ast.Store) and node.id in taken:
+                self.told("L15", node)
+            if isinstance(node, ast.FunctionDef) and changed_in(node) & at_top:
+                self.told("L15", node)
 
     def check_top(self):
         bound = []
@@ -138,6 +172,8 @@ class Checker:
             self.told("L6", node)
         if isinstance(node, ast.ClassDef) and self.parents[node] is not self.tree:
             self.told("L15", node)
+        if isinstance(node, ast.For) and any(names_in(node.iter) & changed_in(part) for part in node.body):
+            self.told("L23", node)
         if isinstance(node, ast.ImportFrom):
             self.check_import(node)
 
@@ -350,10 +386,15 @@ class TheCheckerItself(unittest.TestCase):
             "def f(a):\n    return a" + " + 1" * 40 + "\n": "L10",
             "def f(_a):\n    return 1\n": "L12",
             "def f(id):\n    return 1\n": "L15",
+            "from pathask.names import is_name\n\n\ndef f(is_name):\n    return 1\n": "L15",
+            "class A:\n    pass\n\n\ndef f():\n    A = 1\n    return A\n": "L15",
+            "x = []\n\n\ndef f(a):\n    x.append(a)\n": "L15",
             "# an enum\n": "L17",
             "def f(a, b):\n    return a is b\n": "L20",
             "def f(a: int):\n    return a\n": "L21",
             "def f(a):\n    b = range(a)\n    return b\n": "L23",
+            "def f(a):\n    for b in a:\n        a.append(b)\n": "L23",
+            "def f(a):\n    for b, c in enumerate(a):\n        a[b] = c\n": "L23",
             "def f(a):\n    b = set(a)\n    return b\n": "L24",
             "def f(a):\n    a.sort()\n": "L25",
             "def f(a):\n    a.keys = 1\n": "L26",

@@ -244,6 +244,11 @@ class Named(unittest.TestCase):
     def test_marks_sorted_each_once(self):
         self.assertEqual(marks_in(self.PATTERN), ["blue", "red", "zoo"])
 
+    def test_as_many_as_may_be(self):
+        names = ["q", "zz", "b", "aa", "m", "c", "z", "ab", "k", "a", "on", "x", "abcdefgh", "f", "many", "y", "az", "d"]
+        self.assertEqual(words_in(then(*[on(name) for name in names * 2])), sorted(names))
+        self.assertEqual(marks_in(either(*[("off", name) for name in names * 2])), sorted(names))
+
     def test_none(self):
         for pattern in (STAY, then(), either(), many(STAY), on("*"), then(on("*"), back("*"))):
             self.assertEqual((words_in(pattern), marks_in(pattern)), ([], []))
