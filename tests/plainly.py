@@ -1,5 +1,6 @@
 """What the document tells, written as plainly as it tells it, and inputs by chance: to hold the program against."""
 
+from pathask.errors import PathError
 from pathask.webs import Web
 
 STAY = ("stay",)
@@ -33,6 +34,15 @@ def web_with(knots, ties):
     for one, word, other in ties:
         web.put_tie(one, word, other)
     return web
+
+
+def refused(ask, *arguments):
+    """The refusal that comes of it, as a tuple of its class and its fields; None where none comes."""
+    try:
+        ask(*arguments)
+    except PathError as refusal:
+        return (type(refusal),) + tuple(vars(refusal).values())
+    return None
 
 
 def steps_of(rows, knot):
@@ -95,6 +105,12 @@ def fits_plainly(web, pattern, way):
     return asked(pattern, 0, len(way[1]))
 
 
+def ways_between(web, pattern, one, other, length):
+    """The ways of that length that fit, in their order, gone one by one."""
+    ways = [way for way in ways_from(web, one, length) if len(way[1]) == length and end_plainly(way) == other]
+    return sorted([way for way in ways if fits_plainly(web, pattern, way)], key=lambda way: way[1])
+
+
 def some_leaf(chance, words, marks):
     sort = chance.choice(["stay", "step", "step", "step", "step", "at", "off"])
     if sort == "step":
@@ -124,6 +140,29 @@ def some_web(chance, knots, ties, words=("u", "v"), marks=("m", "n")):
     web = web_with({name: [mark for mark in marks if chance.random() < 0.5] for name in names}, [])
     for number in range(ties):
         tie = (chance.choice(names), chance.choice(words), chance.choice(names))
+        if not web.has_tie(*tie):
+            web.put_tie(*tie)
+    return web
+
+
+def some_questions(chance, number):
+    """Tuples (web, pattern, one, other, length): all pairs of knots and lengths from 0 to 3 of so many webs."""
+    for each in range(number):
+        web = some_web(chance, chance.randint(1, 3), chance.randint(1, 4))
+        pattern = some_pattern(chance, chance.randint(1, 10))
+        pattern = many(pattern) if each % 2 else pattern
+        for one in web.knots():
+            for other in web.knots():
+                for length in range(4):
+                    yield web, pattern, one, other, length
+
+
+def twelve_knots(chance):
+    """A web of twelve knots, a to l, and forty ties."""
+    names = "abcdefghijkl"
+    web = web_with({name: [mark for mark in "mn" if chance.random() < 0.5] for name in names}, [])
+    while len(web.rows()[1]) < 40:
+        tie = (chance.choice(names), chance.choice("uv"), chance.choice(names))
         if not web.has_tie(*tie):
             web.put_tie(*tie)
     return web
@@ -224,3 +263,16 @@ def goes_plainly(web, machine, way):
         if more <= found:
             return any((len(way[1]), end) in found for end in machine[2])
         found |= more
+
+
+def come_plainly(machine, stands, marks):
+    found = set(stands)
+    for again in range(machine[0]):
+        found |= {other for one, leaf, other in machine[3] if one in found and (
+            leaf == STAY or leaf[0] == "at" and leaf[1] in marks or leaf[0] == "off" and leaf[1] not in marks)}
+    return found
+
+
+def stepped_plainly(machine, stands, side, word):
+    return {other for one, leaf, other in machine[3]
+            if one in stands and leaf in (("step", side, word), ("step", side, "*"))}

@@ -249,10 +249,16 @@ class Checker:
             walked = isinstance(parent, (ast.For, ast.comprehension)) and parent.iter is node
             if not (walked or is_call_of(parent, WALKERS)):
                 self.told("L23", node)
-        if is_call_of(node, ("set", "frozenset")):
-            fine = isinstance(parent, (ast.Compare, ast.BinOp)) or is_call_of(parent, ("sorted", "len"))
-            if not fine:
-                self.told("L24", node)
+        if is_call_of(node, ("set", "frozenset")) and not self.is_asked_on_the_spot(node):
+            self.told("L24", node)
+
+    def is_asked_on_the_spot(self, node):
+        parent = self.parents[node]
+        while isinstance(parent, ast.BinOp) and isinstance(parent.op, (ast.Sub, ast.BitAnd, ast.BitOr, ast.BitXor)):
+            parent = self.parents[parent]
+        if isinstance(parent, ast.Compare):
+            return all(isinstance(operator, (ast.In, ast.NotIn, ast.Eq, ast.NotEq)) for operator in parent.ops)
+        return is_call_of(parent, ("sorted", "len")) and not parent.keywords
 
     def check_function(self, node):
         given = node.args
@@ -396,6 +402,9 @@ class TheCheckerItself(unittest.TestCase):
             "def f(a):\n    for b in a:\n        a.append(b)\n": "L23",
             "def f(a):\n    for b, c in enumerate(a):\n        a[b] = c\n": "L23",
             "def f(a):\n    b = set(a)\n    return b\n": "L24",
+            "def f(a, b):\n    return set(a) <= set(b)\n": "L24",
+            "def f(a, b):\n    return list(set(a) & set(b))\n": "L24",
+            "def f(a):\n    return sorted(set(a), key=len)\n": "L24",
             "def f(a):\n    a.sort()\n": "L25",
             "def f(a):\n    a.keys = 1\n": "L26",
             "class A:\n    def encode(self):\n        return 1\n": "L26",

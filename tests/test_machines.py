@@ -6,8 +6,8 @@ from pathask.fitting import fits
 from pathask.machines import come_to, goes, is_machine, machine_of, stepped
 from pathask.patterns import is_pattern, parts_in
 from plainly import (
-    NO_TUPLES, STAY, all_ways, back, changed_within, deep_thing, either, fits_plainly, goes_plainly, many, on,
-    some_machine, some_pattern, some_thing, some_way, some_web, then, web_with)
+    NO_TUPLES, STAY, all_ways, back, changed_within, come_plainly, deep_thing, either, fits_plainly, goes_plainly, many,
+    on, some_machine, some_pattern, some_thing, some_way, some_web, stepped_plainly, then, web_with)
 
 RIGHT = (3, 0, (1, 2), ((0, ("at", "m"), 1), (0, STAY, 2), (0, on("u"), 0), (1, back("*"), 2)))
 
@@ -247,16 +247,11 @@ class AgainstPlainGoing(unittest.TestCase):
             machine = some_machine(chance, chance.randint(1, 12), chance.randint(0, 30))
             stands = tuple(chance.randrange(machine[0]) for number in range(chance.randint(0, 4)))
             marks = [mark for mark in "nm" if chance.random() < 0.5]
-            found = set(stands)
-            for again in range(machine[0]):
-                found |= {other for one, leaf, other in machine[3] if one in found and (
-                    leaf == STAY or leaf[0] == "at" and leaf[1] in marks or leaf[0] == "off" and leaf[1] not in marks)}
-            self.assertEqual(come_to(machine, stands, marks), tuple(sorted(found)))
+            self.assertEqual(come_to(machine, stands, marks), tuple(sorted(come_plainly(machine, stands, marks))))
             for side in ("on", "back"):
                 for word in ("u", "v", "w"):
-                    told = {other for one, leaf, other in machine[3]
-                            if one in stands and leaf in (("step", side, word), ("step", side, "*"))}
-                    self.assertEqual(stepped(machine, stands, side, word), tuple(sorted(told)))
+                    right = tuple(sorted(stepped_plainly(machine, stands, side, word)))
+                    self.assertEqual(stepped(machine, stands, side, word), right)
 
     def test_goes(self):
         chance = random.Random(23)

@@ -1,7 +1,7 @@
 import string
 import unittest
 
-from pathask.names import is_name
+from pathask.names import is_name, name_of
 
 SIGNS = [chr(number) for number in range(32, 127) if chr(number) != "%"]
 
@@ -68,6 +68,17 @@ class Names(unittest.TestCase):
         self.assert_none(deep)
         self.assert_none(["a"] * 999)
         self.assert_none(("a",) * 999)
+
+
+class NamesOfNumbers(unittest.TestCase):
+    def test_each_number_has_a_name_of_its_own(self):
+        names = [name_of(number) for number in range(20000)]
+        self.assertEqual(len(set(names)), 20000)
+        self.assertTrue(all(is_name(name) for name in names))
+
+    def test_great_numbers(self):
+        names = [name_of(number) for number in (26 ** 7 - 1, 26 ** 7, 26 ** 8 - 1)]
+        self.assertEqual(names, ["z" * 7, "b" + "a" * 7, "z" * 8])
 
 
 if __name__ == "__main__":
