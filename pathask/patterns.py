@@ -79,8 +79,11 @@ def leaves_in(pattern):
 
 
 def words_in(pattern):
-    steps = [part for part in all_within(pattern) if part[0] == "step"]
-    return sorted(set([step[2] for step in steps if step[2] != ANY]))
+    return [word for word in words_of_steps(pattern) if word != ANY]
+
+
+def words_of_steps(pattern):
+    return sorted(set([part[2] for part in all_within(pattern) if part[0] == "step"]))
 
 
 def marks_in(pattern):

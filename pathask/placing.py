@@ -43,7 +43,4 @@ def place_of(web, pattern, way):
         led = throngs.led(throng)
         place += sum([tail[behind] for another, behind in led if another < step])
         throng = throngs.led_by(throng, step)
-        # No way that fits begins as this one does up to here.
-        if not throng[1]:
-            break
     return place

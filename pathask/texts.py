@@ -63,8 +63,12 @@ def is_first_word(word):
 
 
 def is_number(word):
+    return is_number_to(word, MOST_WITHIN)
+
+
+def is_number_to(word, most):
     # Held against numbers as they are written, so that no other way of writing one is let in.
-    return word in [str(number) for number in range(MOST_WITHIN + 1)]
+    return word in [str(number) for number in range(most + 1)]
 
 
 class Reader:

@@ -157,15 +157,22 @@ def some_questions(chance, number):
                     yield web, pattern, one, other, length
 
 
-def twelve_knots(chance):
-    """A web of twelve knots, a to l, and forty ties."""
-    names = "abcdefghijkl"
+def web_of_size(chance, names, ties):
+    """A web with these knots and just so many ties, of the words u and v."""
     web = web_with({name: [mark for mark in "mn" if chance.random() < 0.5] for name in names}, [])
-    while len(web.rows()[1]) < 40:
+    while len(web.rows()[1]) < ties:
         tie = (chance.choice(names), chance.choice("uv"), chance.choice(names))
         if not web.has_tie(*tie):
             web.put_tie(*tie)
     return web
+
+
+def eight_knots(chance):
+    return web_of_size(chance, "abcdefgh", 40)
+
+
+def twelve_knots(chance):
+    return web_of_size(chance, "abcdefghijkl", 40)
 
 
 def some_way(chance, web, length):
@@ -276,3 +283,74 @@ def come_plainly(machine, stands, marks):
 def stepped_plainly(machine, stands, side, word):
     return {other for one, leaf, other in machine[3]
             if one in stands and leaf in (("step", side, word), ("step", side, "*"))}
+
+
+def lengths_between(rows, pattern, costs):
+    """For each pair of knots that some way fits how few steps there are in one, where each tie counts as its cost."""
+    knots = [name for name, marks in rows[0]]
+    if pattern[0] == "step":
+        found = {}
+        for (one, word, other), cost in costs.items():
+            if pattern[2] in ("*", word):
+                pair = (one, other) if pattern[1] == "on" else (other, one)
+                found[pair] = min(cost, found.get(pair, cost))
+        return found
+    if pattern[0] in ("at", "off"):
+        return {(name, name): 0 for name, marks in rows[0] if (pattern[1] in marks) == (pattern[0] == "at")}
+    if pattern[0] == "either":
+        return least_of([lengths_between(rows, part, costs) for part in pattern[1]])
+    found = {(knot, knot): 0 for knot in knots}
+    if pattern[0] == "then":
+        for part in pattern[1]:
+            found = put_behind_plainly(found, lengths_between(rows, part, costs))
+    if pattern[0] == "many":
+        once = lengths_between(rows, pattern[1], costs)
+        for knot in knots:
+            found = least_of([found, put_behind_plainly(found, once)])
+    return found
+
+
+def least_of(lengths):
+    found = {}
+    for each in lengths:
+        for pair, length in each.items():
+            found[pair] = min(length, found.get(pair, length))
+    return found
+
+
+def put_behind_plainly(firsts, lasts):
+    found = {}
+    for (one, middle), length in firsts.items():
+        for (again, other), more in lasts.items():
+            if again == middle:
+                found[(one, other)] = min(length + more, found.get((one, other), length + more))
+    return found
+
+
+def pairs_plainly(rows, pattern):
+    return sorted(lengths_between(rows, pattern, {tie: 1 for tie in rows[1]}))
+
+
+def plain_lengths_plainly(rows, rules):
+    """For each of the rules' ties that is no tie of the web its plain length, bettered until nothing is better."""
+    told = {}
+    while True:
+        costs = {**told, **{tie: 1 for tie in rows[1]}}
+        better = {}
+        for word, pattern in rules:
+            for (one, other), length in lengths_between(rows, pattern, costs).items():
+                tie = (one, word, other)
+                if tie not in rows[1]:
+                    better[tie] = min(length, better.get(tie, length))
+        if better == told:
+            return told
+        told = better
+
+
+def with_ties(rows, ties):
+    return (rows[0], tuple(sorted(set(rows[1]) | set(ties))))
+
+
+def some_rules(chance, most, words=("r", "s", "u"), within=("r", "s", "u", "v"), parts=8):
+    return [(chance.choice(words), some_pattern(chance, chance.randint(1, parts), 10, within))
+            for number in range(chance.randint(0, most))]
